@@ -1,0 +1,1 @@
+"""Swaprest: words whose neighbours may not change places freely."""
