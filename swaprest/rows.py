@@ -13,11 +13,38 @@ def is_row(row):
     return isinstance(row, list) and all([is_number(one) for one in row])
 
 
+def is_row_of(row, width):
+    """Whether it is a list of width numbers."""
+    return is_row(row) and len(row) == width
+
+
 def refuse_rows(rows, width):
     """Refuse the first of the rows that isn't a list of width numbers."""
     for place, row in enumerate(rows):
-        if not is_row(row) or len(row) != width:
+        if not is_row_of(row, width):
             raise NoRow(place)
+
+
+def unit_row(place, width):
+    """The row with 1 at the place and noughts else."""
+    return [ONE if at == place else NOUGHT for at in range(width)]
+
+
+def is_of_noughts(row):
+    """Whether each number of a row is nought."""
+    return all([one == NOUGHT for one in row])
+
+
+def contrary(row):
+    """A row with the other sign at each number."""
+    return [(-top, bottom) for top, bottom in row]
+
+
+def with_times(row, weight, other):
+    """A row with another one, times the weight, added to it."""
+    if weight == NOUGHT:
+        return list(row)
+    return [mine if its == NOUGHT else plus(mine, times(weight, its)) for mine, its in zip(row, other)]
 
 
 def pairing(one, other):

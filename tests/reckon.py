@@ -1,8 +1,12 @@
-"""What the tests share: sample values, and a reckoning of rooms that draws nothing from the program."""
+"""What the tests share: sample values, ways to ask, and a reckoning of rooms, tables and words of its own."""
 
 import itertools
+import unittest
 from fractions import Fraction
 from math import gcd
+
+from swaprest.errors import SwapError
+from swaprest.tables import Table
 
 N = (0, 1)
 I = (1, 1)
@@ -110,3 +114,147 @@ def mixed_grid(height, width, salt):
 def unit_rows(width):
     """The kept rows of the whole room."""
     return [[I if at == k else N for at in range(width)] for k in range(width)]
+
+
+def drawn(salt, many, below):
+    """So many whole numbers from 0 on, below a bound, always the same ones for a salt."""
+    state = salt * 2654435761 + 12345
+    found = []
+    for _ in range(many):
+        state = (state * 6364136223846793005 + 1442695040888963407) & (2 ** 64 - 1)
+        found.append((state >> 33) % below)
+    return found
+
+
+def shape(thing):
+    """What is seen of a thing: its worth and the classes of all that is in it."""
+    if isinstance(thing, Table):
+        return ("Table", shape(thing.count), shape(thing.leavings))
+    if isinstance(thing, (list, tuple)):
+        return (thing.__class__.__name__, *[shape(one) for one in thing])
+    return (thing.__class__.__name__, thing)
+
+
+def spoil(thing):
+    """Put something else in the stead of all that the lists within a thing hold."""
+    if isinstance(thing, (list, tuple)):
+        for one in thing:
+            spoil(one)
+    if isinstance(thing, list):
+        thing[:] = ["spoiled"]
+
+
+class Case(unittest.TestCase):
+    """Asks, and sees along the way to what holds for every answer and every refusal."""
+
+    def ask(self, told_by, *handed):
+        """What is told; handed things stay as they were, and asked again the same is told in lists of its own."""
+        before = shape(handed)
+        first = told_by(*handed)
+        wanted = shape(first)
+        self.assertTrue(shape(handed) == before, "what was handed in was changed")
+        spoil(first)
+        self.assertTrue(shape(handed) == before, "a told list is one that was handed in")
+        told = told_by(*handed)
+        self.assertTrue(shape(told) == wanted, "asked again, another answer was told")
+        return told
+
+    def refused(self, told_by, handed, wanted, **fields):
+        """That the handed things are refused by just this class, with these fields, and stay as they were."""
+        before = shape(handed)
+        for _ in range(2):
+            with self.assertRaises(SwapError, msg=repr(handed)) as caught:
+                told_by(*handed)
+            self.assertIs(caught.exception.__class__, wanted, repr(handed))
+            for name, worth_of_it in fields.items():
+                self.assertEqual(shape(getattr(caught.exception, name)), shape(worth_of_it), repr(handed))
+        self.assertTrue(shape(handed) == before, "what was refused was changed")
+
+
+# Leavings of tables that keep the rule, by what they are known as, with their counts.
+KEEPS = {
+    "one way": (1, []),
+    "nothing left of two": (2, []),
+    "nothing left of six": (6, []),
+    "turns and moves": (2, [(0, 1, nums(0, 1, 0))]),
+    "place and push": (2, [(0, 1, nums(0, 0, 1))]),
+    "third and alone": (2, [(0, 1, [(1, 2), (-3, 1), (5, 7)])]),
+    "three in a row": (3, [(0, 1, nums(0, 0, 1, 0))]),
+    "two by two": (3, [(0, 1, nums(0, 2, 0, 0)), (0, 2, nums(0, 0, -2, 0)), (1, 2, nums(1, 0, 0, 0))]),
+    "round": (3, [(0, 1, nums(0, 0, 1, 0)), (1, 2, nums(1, 0, 0, 0)), (0, 2, nums(0, -1, 0, 0))]),
+    "two by two, shifted": (
+        3, [(1, 2, [(1, 1), N, N, (1, 3)]), (0, 1, [N, (2, 1), N, (-4, 1)]), (0, 2, [N, N, (-2, 1), (1, 1)])]
+    ),
+    "grown by a turn": (4, [(0, 1, nums(0, 1, 0, 0, 0)), (0, 2, nums(0, 1, 1, 0, 0)), (0, 3, nums(0, 0, 0, 2, 0))]),
+    "all of two by two": (4, [
+        (0, 1, nums(0, 1, 0, 0, 0)), (0, 2, nums(0, 0, -1, 0, 0)), (1, 2, nums(1, 0, 0, -1, 0)),
+        (1, 3, nums(0, 1, 0, 0, 0)), (2, 3, nums(0, 0, -1, 0, 0)),
+    ]),
+    "two letters, three deep": (
+        5, [(1, 2, nums(0, 0, 0, 0, 1, 0)), (0, 1, nums(0, 0, 1, 0, 0, 0)), (0, 2, nums(0, 0, 0, 1, 0, 0))]
+    ),
+    "two places, two pushes": (4, [(0, 2, nums(0, 0, 0, 0, 1)), (1, 3, [N, N, N, N, (1, 2)])]),
+}
+
+# Leavings of tables that break the rule.
+BREAKS = {
+    "in a ring": (3, [(0, 1, nums(0, 0, 1, 0)), (0, 2, nums(1, 0, 0, 5)), (1, 2, nums(1, 0, 0, 0))]),
+    "alone only": (3, [(0, 1, nums(0, 1, 0, 0)), (0, 2, nums(0, 0, 1, 0)), (1, 2, nums(0, 0, 0, 7))]),
+    "thirds": (3, [(1, 2, [(1, 3), N, (-2, 5), I]), (0, 1, [N, (4, 1), (1, 2), N]), (0, 2, [I, I, N, (-1, 6)])]),
+    "the last three": (4, [(1, 2, nums(0, 0, 0, 1, 0)), (1, 3, nums(0, 1, 0, 0, 1)), (2, 3, nums(0, 0, 1, 0, 0))]),
+    "late": (6, [(0, 1, nums(0, 1, 0, 0, 0, 0, 0)), (3, 4, nums(0, 0, 0, 0, 1, 0, 0)), (4, 5, nums(1, 0, 0, 0, 0, 0, 2))]),
+}
+
+
+def mixed_leavings(count, salt):
+    """Leavings of most of the two ways, with unlike fractions, in mixed order."""
+    pairs = list(itertools.combinations(range(count), 2))
+    rows = mixed_grid(len(pairs), count + 1, salt)
+    leavings = [(i, j, row) for (i, j), row, many in zip(pairs, rows, drawn(salt, len(pairs), 4)) if many]
+    return [one for _, one in sorted(zip(drawn(salt + 1, len(leavings), 1000), leavings))]
+
+
+def left_row(count, leavings, one, other):
+    """What is left of two things, by the words of point 9: the sum over all i, j."""
+    rows = {(i, j): row for i, j, row in leavings}
+    total = [Fraction(0)] * (count + 1)
+    for i, j in itertools.product(range(count), repeat=2):
+        if one[i] == N or other[j] == N or ((i, j) not in rows and (j, i) not in rows):
+            continue
+        for at in range(count + 1):
+            part = worth(rows[i, j][at]) if (i, j) in rows else -worth(rows[j, i][at])
+            total[at] += worth(one[i]) * worth(other[j]) * part
+    return [number(one) for one in total]
+
+
+def sum_rows(*rows):
+    """Rows added place by place."""
+    return [number(sum(worth(one) for one in ones)) for ones in zip(*rows)]
+
+
+def times_row(weight, row):
+    """A row with each number times the weight."""
+    return [number(worth(weight) * worth(one)) for one in row]
+
+
+def first_break(count, leavings):
+    """The first three ways whose round sum isn't nought, and it; None where there are none."""
+    units = unit_rows(count + 1)
+    for i, j, k in itertools.combinations(range(count), 3):
+        parts = [
+            left_row(count, leavings, units[a], left_row(count, leavings, units[b], units[c]))
+            for a, b, c in ((i, j, k), (j, k, i), (k, i, j))
+        ]
+        if sum_rows(*parts) != [N] * (count + 1):
+            return (i, j, k, sum_rows(*parts))
+    return None
+
+
+def field_of(leavings):
+    """The field leavings of the table that is made of them."""
+    return tuple(sorted((i, j, tuple(row)) for i, j, row in leavings if any(one != N for one in row)))
+
+
+def table_of(name):
+    """One of the tables above."""
+    return Table(*{**KEEPS, **BREAKS}[name])

@@ -27,6 +27,12 @@ WORDS = re.compile(
     r"|NamedTuple|TypedDict|TYPE_CHECKING|abstractmethod)\b|dataclass|overload|contextmanager"
 )
 
+METHODS = set(
+    "append clear copy count endswith extend find get index insert isalnum isalpha isdigit islower isspace isupper items"
+    " join keys ljust lower lstrip partition pop remove replace reverse rfind rjust rpartition rsplit rstrip setdefault"
+    " split splitlines startswith strip update upper values zfill bit_length add discard sort".split()
+)
+
 TOP = (ast.FunctionDef, ast.ClassDef, ast.ImportFrom, ast.Assign)
 
 
@@ -87,9 +93,22 @@ class Form(unittest.TestCase):
                 self.assertFalse(name.startswith("_"), (path, name))
             tops = defined(tree) + [name for _, name in drawn(tree)]
             self.assertEqual(len(tops), len(set(tops)), path)
+            used = {one.id for one in ast.walk(tree) if isinstance(one, ast.Name)}
+            self.assertEqual({name for _, name in drawn(tree)} - used, set(), path)
             for one in ast.walk(tree):
                 if isinstance(one, ast.Name) and one.id in dir(builtins):
                     self.assertIn(one.id, OWN_OF_PYTHON, path)
+
+    def test_methods_and_values(self):
+        trees = [tree for _, tree in files()]
+        classes = [one for tree in trees for one in tree.body if isinstance(one, ast.ClassDef)]
+        methods = {one.name for each in classes for one in each.body if isinstance(one, ast.FunctionDef)}
+        asked = [one for tree in trees for one in ast.walk(tree) if isinstance(one, ast.Attribute)]
+        values = {one.attr for one in asked if isinstance(one.ctx, ast.Store)}
+        self.assertEqual(methods & values, set())
+        called = {id(one.func) for tree in trees for one in ast.walk(tree) if isinstance(one, ast.Call)}
+        for one in asked:
+            self.assertIn(one.attr, METHODS | methods if id(one) in called else values)
 
     def test_names_are_drawn_from_where_they_are_defined(self):
         trees = {"swaprest." + path.stem: tree for path, tree in files()}
