@@ -258,3 +258,120 @@ def field_of(leavings):
 def table_of(name):
     """One of the tables above."""
     return Table(*{**KEEPS, **BREAKS}[name])
+
+
+def word_key(word):
+    """What words are sorted by."""
+    return (len(word), word)
+
+
+def sum_of(terms):
+    """The sum of a dict of words with Fractions."""
+    return [(word, number(Fraction(terms[word]))) for word in sorted(terms, key=word_key) if terms[word] != 0]
+
+
+def terms_of(total):
+    """The dict of a sum."""
+    return {word: worth(one) for word, one in total}
+
+
+def is_plain_sum(total, count):
+    """Whether it is a sum of words of so many ways."""
+    if total.__class__ is not list or any(term.__class__ is not tuple or len(term) != 2 for term in total):
+        return False
+    for word, one in total:
+        if word.__class__ is not tuple or len(word) > 5 or not is_plain_number(one) or one == N:
+            return False
+        if any(way.__class__ is not int or not 0 <= way < count for way in word):
+            return False
+    keys = [word_key(word) for word, _ in total]
+    return all(one < other for one, other in zip(keys, keys[1:]))
+
+
+def falls(word):
+    """The places at which a word falls."""
+    return [place for place in range(len(word) - 1) if word[place] > word[place + 1]]
+
+
+def is_rising(total):
+    """Whether all words of a sum are rising."""
+    return not any(falls(word) for word, _ in total)
+
+
+def step_done(leavings, terms, word, place):
+    """The dict behind a step, by the words of point 13."""
+    x, y = word[place], word[place + 1]
+    left = next((row for i, j, row in leavings if (i, j) == (y, x)), [])
+    found = dict(terms)
+    c = found.pop(word)
+    came = [(word[:place] + (y, x) + word[place + 2:], c)]
+    for k, r in enumerate(left[:-1]):
+        came.append((word[:place] + (k,) + word[place + 2:], -c * worth(r)))
+    if left:
+        came.append((word[:place] + word[place + 2:], -c * worth(left[-1])))
+    for other, one in came:
+        found[other] = found.get(other, 0) + one
+    return {other: one for other, one in found.items() if one != 0}
+
+
+def rise_by(leavings, terms, pick):
+    """The dict of rising words to which steps lead, each picked from the list of all that may be done."""
+    while True:
+        steps = [(word, place) for word in sorted(terms, key=word_key) for place in falls(word)]
+        if not steps:
+            return terms
+        terms = step_done(leavings, terms, *pick(steps))
+
+
+def rise_plain(leavings, total):
+    """The risen sum, reckoned by the last step that may be done."""
+    return sum_of(rise_by(leavings, terms_of(total), lambda steps: steps[-1]))
+
+
+def add_terms(*weighed):
+    """The dict of sums, each with a number before it."""
+    found = {}
+    for weight, total in weighed:
+        for word, one in total:
+            found[word] = found.get(word, 0) + Fraction(weight) * worth(one)
+    return found
+
+
+def joined_words(one, other):
+    """The sum of all words of the one with a word of the other behind."""
+    found = {}
+    for first, x in one:
+        for second, y in other:
+            found[first + second] = found.get(first + second, 0) + worth(x) * worth(y)
+    return sum_of(found)
+
+
+def mixed_sum(count, long, many, salt):
+    """A sum of about so many words of up to so many ways."""
+    found = {}
+    for k in range(many):
+        length, top, low, *ways = drawn(salt * 100 + k, long + 3, 60)
+        word = tuple(way % count for way in ways[:length % (long + 1)])
+        found[word] = Fraction(top % 11 - 5, low % 3 + 1)
+    return sum_of(found)
+
+
+def rising_words(count, most):
+    """All rising words of at most so many ways, in order."""
+    return [word for long in range(most + 1) for word in itertools.combinations_with_replacement(range(count), long)]
+
+
+def is_bare(leavings):
+    """Whether no leaving has a number alone."""
+    return all(row[-1] == N for _, _, row in leavings)
+
+
+def wrong_terms(count):
+    """What is no term of a sum of words of so many ways."""
+    found = [None, True, 0, "", "ab", [], [(), I], (), ((),), ((), I, I), (I, ()), (((), I),), [((), I)], ((0,), I, 0)]
+    found += [((0,), one) for one in NO_NUMBERS] + [((), one) for one in NO_NUMBERS] + [((0,), N), ((), N)]
+    ways = (count, count + 1, -1, 60, 10 ** 30, True, False, None, "", "0", [], [0], (), (0,), (1, 1))
+    found += [((way,), I) for way in ways] + [((0, way), I) for way in ways] + [((way, 0, 0, 0, 0), I) for way in ways]
+    found += [((0, 0, 0, 0, 0, 0), I), ((0,) * 7, I), ((0,) * 60, I), ((0, 0, 0, 0, 0, None), I)]
+    found += [(word, I) for word in (None, True, 0, 1, "", "0", [], [0], [0, 0], [()])]
+    return found
