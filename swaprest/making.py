@@ -3,6 +3,7 @@
 from swaprest.errors import NoCount, NoRow, NotFree
 from swaprest.numerals import NOUGHT, is_whole, less
 from swaprest.rows import pairing, refuse_rows, summed, unit_row
+from swaprest.squares import back_square, moved_row
 from swaprest.tables import Table, pairs_of
 
 # What is left of which two ways in a loose table of more than depth 1, by letters and depth; its count first.
@@ -21,21 +22,15 @@ def beside(one, other):
     return Table(first + second, leavings)
 
 
-def refuse_unfree(rows):
-    """Refuse things of which one has numbers at the ways that are a sum of those ahead."""
-    ahead = []
-    for place, row in enumerate(rows):
-        told = row[:-1]
-        if summed(ahead, told)[0] == "sum":
-            raise NotFree(place)
-        ahead.append(told)
+def first_unfree(rows):
+    """The place of the first row that is a sum of those ahead, with numbers before them; there is one."""
+    return min([place for place in range(len(rows)) if summed(rows[:place], rows[place])[0] == "sum"])
 
 
-def told_by_things(rows, thing):
-    """A thing told by weights of free things and a number alone."""
-    weights = summed([row[:-1] for row in rows], thing[:-1])[1]
-    alone = pairing(weights, [row[-1] for row in rows])
-    return weights + [less(thing[-1], alone)]
+def told_by_things(back, alone, thing):
+    """A thing told by weights of things and a number alone, of the square that tells the weights."""
+    weights = moved_row(back, thing[:-1])
+    return weights + [less(thing[-1], pairing(weights, alone))]
 
 
 def turned(table, rows):
@@ -43,9 +38,13 @@ def turned(table, rows):
     if len(rows) != table.count:
         raise NoRow(None)
     refuse_rows(rows, table.count + 1)
-    refuse_unfree(rows)
-    leavings = [(i, j, told_by_things(rows, table.left(rows[i], rows[j]))) for i, j in pairs_of(table.count)]
-    return Table(table.count, leavings)
+    at_ways, alone = [row[:-1] for row in rows], [row[-1] for row in rows]
+    # This square moves weights of the things to the numbers at the ways that they make.
+    word, back = back_square([[row[way] for row in at_ways] for way in range(table.count)])
+    if word == "blind":
+        raise NotFree(first_unfree(at_ways))
+    pairs = pairs_of(table.count)
+    return Table(table.count, [(i, j, told_by_things(back, alone, table.left(rows[i], rows[j]))) for i, j in pairs])
 
 
 def loose(letters, depth):

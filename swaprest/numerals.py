@@ -42,19 +42,29 @@ def fraction(top, bottom):
 
 def plus(one, other):
     """The sum of two numbers."""
-    return fraction(one[0] * other[1] + other[0] * one[1], one[1] * other[1])
+    # Of numbers in lowest parts the sum's top and bottom share only what both bottoms do: less to divide by.
+    shared = common_divisor(one[1], other[1])
+    mine, its = one[1] // shared, other[1] // shared
+    top = one[0] * its + other[0] * mine
+    again = common_divisor(top, shared)
+    return (top // again, mine * (other[1] // again))
 
 
 def less(one, other):
     """The first number less the second."""
-    return fraction(one[0] * other[1] - other[0] * one[1], one[1] * other[1])
+    return plus(one, (-other[0], other[1]))
 
 
 def times(one, other):
     """The product of two numbers."""
-    return fraction(one[0] * other[0], one[1] * other[1])
+    # In lowest parts a top shares something with the other one's bottom alone.
+    mine, its = common_divisor(one[0], other[1]), common_divisor(other[0], one[1])
+    return ((one[0] // mine) * (other[0] // its), (one[1] // its) * (other[1] // mine))
 
 
 def over(one, other):
     """The first number divided by the second; nought as the second is refused."""
-    return fraction(one[0] * other[1], one[1] * other[0])
+    top, bottom = other
+    if top == 0:
+        raise NoNumber("nothing is divided by nought")
+    return times(one, (bottom, top) if top > 0 else (-bottom, -top))

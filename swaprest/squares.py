@@ -48,9 +48,9 @@ def back_square(square):
     if not is_square(square, MOST_SIDE):
         raise NoSquare(None)
     side = len(square)
-    blind = nought_rows(square, side)
-    if blind:
-        return ("blind", blind[0])
+    units = [unit_row(place, side) for place in range(side)]
     # What makes the square's rows units makes the units behind them the rows of the one that moves back.
-    both = kept_rows([square[place] + unit_row(place, side) for place in range(side)])
-    return ("back", [row[side:] for row in both])
+    both = kept_rows([row + unit for row, unit in zip(square, units)])
+    if [row[:side] for row in both] == units:
+        return ("back", [row[side:] for row in both])
+    return ("blind", nought_rows(square, side)[0])
