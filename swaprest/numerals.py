@@ -4,6 +4,7 @@ from swaprest.errors import NoNumber
 
 NOUGHT = (0, 1)
 ONE = (1, 1)
+MINUS_ONE = (-1, 1)
 
 
 def is_whole(one):

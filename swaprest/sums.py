@@ -1,15 +1,14 @@
 """Sums of words: exchanged, taken many times, turned back, made even in all orders."""
 
 from swaprest.errors import NoCount, TooLong
-from swaprest.numerals import ONE, is_whole, times
+from swaprest.numerals import MINUS_ONE, ONE, is_whole, times
 from swaprest.tables import left_by_ways, refuse_broken, refuse_unless_bare
 from swaprest.terms import (
-    MOST_LONG, add_term, add_times, held_sum, longest_in, put_together, refuse_long, told_sum,
+    MOST_LONG, add_term, add_times, held_sum, longest_in, put_together, refuse_long, terms_of_length, told_sum,
 )
 from swaprest.words import risen_dict, risen_held
 
 MOST_MANY = 5
-MINUS_ONE = (-1, 1)
 
 
 def swap_dict(by_ways, one, other):
@@ -25,11 +24,6 @@ def swap_of(table, one, other):
     refuse_long(first, second)
     refuse_broken(table)
     return told_sum(swap_dict(left_by_ways(table), first, second))
-
-
-def terms_of_length(held, length):
-    """The words of a dict with so many ways, and their numbers."""
-    return {word: held[word] for word in held if len(word) == length}
 
 
 def longest_of(table, total):

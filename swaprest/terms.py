@@ -28,19 +28,21 @@ def word_order(word):
     return (len(word), word)
 
 
+def may_follow(ahead, term, count):
+    """Whether it is a term that may stand in a sum behind the term ahead, None where it is the first."""
+    if not is_term(term, count):
+        return False
+    return ahead is None or word_order(ahead[0]) < word_order(term[0])
+
+
 def held_sum(total, count):
     """A sum as a dict; what is no sum is refused by the first place at which it is none."""
-    held = {}
     ahead = None
     for place, term in enumerate(total):
-        if not is_term(term, count):
+        if not may_follow(ahead, term, count):
             raise NoSum(place)
-        word, number = term
-        if ahead is not None and word_order(word) <= word_order(ahead):
-            raise NoSum(place)
-        held[word] = number
-        ahead = word
-    return held
+        ahead = term
+    return {word: number for word, number in total}
 
 
 def told_sum(held):
@@ -66,6 +68,11 @@ def add_times(held, number, other):
 def longest_in(held):
     """How many ways the longest word of a dict has, 0 where there is none."""
     return max([len(word) for word in held], default=0)
+
+
+def terms_of_length(held, length):
+    """The words of a dict with so many ways, and their numbers."""
+    return {word: held[word] for word in held if len(word) == length}
 
 
 def refuse_long(one, other):

@@ -19,6 +19,11 @@ def first_fall(word):
     return min([place for place in range(len(word) - 1) if falls_at(word, place)])
 
 
+def is_rising(word):
+    """Whether a word falls nowhere."""
+    return not any([falls_at(word, place) for place in range(len(word) - 1)])
+
+
 def out_of_order(word):
     """How many two ways of a word stand the greater one ahead of the other."""
     return len([1 for low in range(len(word)) for high in range(low + 1, len(word)) if word[low] > word[high]])

@@ -375,3 +375,215 @@ def wrong_terms(count):
     found += [((0, 0, 0, 0, 0, 0), I), ((0,) * 7, I), ((0,) * 60, I), ((0, 0, 0, 0, 0, None), I)]
     found += [(word, I) for word in (None, True, 0, 1, "", "0", [], [0], [0, 0], [()])]
     return found
+
+
+# A sum of words of three ways or letters.
+GOOD = [((), (2, 3)), ((1,), I), ((2,), (-1, 1)), ((0, 1), I), ((1, 0), (5, 2)), ((2, 1, 0, 0, 1), I)]
+
+
+def out_of_order():
+    """Lists with words twice or in the wrong order, and the first place at which they are no sum."""
+    return [
+        ([((), I), ((), I)], 1),
+        ([((0,), I), ((), I)], 1),
+        ([((0,), I), ((0,), I)], 1),
+        ([((0,), I), ((0,), (2, 1))], 1),
+        ([((1,), I), ((0,), I)], 1),
+        ([((0, 0), I), ((2,), I)], 1),
+        ([((0, 1), I), ((0, 0), I)], 1),
+        ([((1, 0), I), ((0, 2), I)], 1),
+        ([((), I), ((1, 2, 0), I), ((1, 1, 2), I)], 2),
+        ([((), I), ((0,), I), ((1,), I), ((1,), I), ((2,), I)], 3),
+        ([((), I), ((1,), I), ((0,), I), ((2,), I), ((2,), I)], 2),
+        ([((), I), ((0,), I), ((0, 0), I), ((2,), I)], 3),
+        ([((0, 0, 0, 0, 1), I), ((0, 0, 0, 0, 0), I)], 1),
+        ([((0, 0, 0, 0, 0), I), ((2, 2, 2, 2), I)], 1),
+        (GOOD + [((2, 1, 0, 0, 1), I)], 6),
+        (GOOD + [((0, 1), I)], 6),
+        (GOOD[:3] + [GOOD[1]] + GOOD[3:], 3),
+        (GOOD[::-1], 1),
+    ]
+
+
+def no_sums():
+    """Lists that are no sums of words of three ways or letters, and the first place at which they are none."""
+    found = [([wrong], 0) for wrong in wrong_terms(3)] + out_of_order()
+    picked = [((0, 1), N), ((0, 2), (2, 4)), ((0, 0, 0, 0, 0, 0), I), ((0, 3), I), ((0, -1), I), ((0, True), I), None, []]
+    for place in range(len(GOOD) + 1):
+        found += [(GOOD[:place] + [wrong] + GOOD[place:], place) for wrong in picked]
+    found += [([((1,), I), ((0,), I), None], 1), ([((1,), I), None, ((0,), I)], 1), ([((1,), N), ((0,), I)], 0)]
+    return found
+
+
+def after_plain(one, other):
+    """The square that moves as the other and then the one do."""
+    return [[number(sum((worth(a) * worth(b) for a, b in zip(row, column)), Fraction(0))) for column in zip(*other)] for row in one]
+
+
+def moved_plain(square, row):
+    """The row to which a square moves a row."""
+    return [number(pair(line, row)) for line in square]
+
+
+def still(side):
+    """The square that moves no row."""
+    return unit_rows(side)
+
+
+def blank(side):
+    """The square of noughts."""
+    return [[N] * side for _ in range(side)]
+
+
+def sum_squares(side, *weighed):
+    """The sum of squares, each with a number (a Fraction or a whole number) before it."""
+    return [
+        [number(sum((Fraction(weight) * worth(square[r][k]) for weight, square in weighed), Fraction(0))) for k in range(side)]
+        for r in range(side)
+    ]
+
+
+def swap_squares(one, other):
+    """The after of two squares less that of both the other way about."""
+    return sum_squares(len(one), (1, after_plain(one, other)), (-1, after_plain(other, one)))
+
+
+def fault_plain(count, leavings, squares):
+    """The first two ways at which squares are no acting, by the words of point 23."""
+    rows = {(i, j): row for i, j, row in leavings}
+    side = len(squares[0])
+    for i, j in itertools.combinations(range(count), 2):
+        row = rows.get((i, j), [N] * (count + 1))
+        wanted = sum_squares(side, *[(worth(one), square) for one, square in zip(row, squares + [still(side)])])
+        if swap_squares(squares[i], squares[j]) != wanted:
+            return (i, j)
+    return None
+
+
+def whole_square(*rows):
+    """A square of whole numbers."""
+    return [nums(*row) for row in rows]
+
+
+def shifted(squares, *worths):
+    """Squares with the one that moves no row added to each, times its number."""
+    return [sum_squares(len(square), (1, square), (one, still(len(square)))) for square, one in zip(squares, worths)]
+
+
+def side_by_side(*lists):
+    """The acting that moves the parts of a row each by its own acting."""
+    found = []
+    for squares in zip(*lists):
+        side = sum(len(square) for square in squares)
+        total, at = blank(side), 0
+        for square in squares:
+            for r, row in enumerate(square):
+                total[at + r][at:at + len(square)] = row
+            at += len(square)
+        found.append(total)
+    return found
+
+
+def seen_from(squares, turn, back):
+    """The acting seen from other rows, turn and back undoing one another."""
+    return [after_plain(turn, after_plain(square, back)) for square in squares]
+
+
+TURN = {
+    2: (whole_square((1, 2), (1, 3)), whole_square((3, -2), (-1, 1))),
+    3: (whole_square((1, 2, 0), (0, 1, -1), (1, 2, 1)), whole_square((3, -2, -2), (-1, 1, 1), (-1, 0, 1))),
+    4: (
+        whole_square((1, 1, 0, 0), (0, 1, 1, 0), (0, 0, 1, 1), (0, 0, 0, 1)),
+        whole_square((1, -1, 1, -1), (0, 1, -1, 1), (0, 0, 1, -1), (0, 0, 0, 1)),
+    ),
+}
+
+# Of the table "two by two": the way 0 stretches, 1 moves up, 2 moves down.
+SPIN = {
+    1: [whole_square((0,))] * 3,
+    2: [whole_square((1, 0), (0, -1)), whole_square((0, 1), (0, 0)), whole_square((0, 0), (1, 0))],
+    3: [
+        whole_square((2, 0, 0), (0, 0, 0), (0, 0, -2)), whole_square((0, 2, 0), (0, 0, 1), (0, 0, 0)),
+        whole_square((0, 0, 0), (1, 0, 0), (0, 2, 0)),
+    ],
+    4: [
+        whole_square((3, 0, 0, 0), (0, 1, 0, 0), (0, 0, -1, 0), (0, 0, 0, -3)),
+        whole_square((0, 3, 0, 0), (0, 0, 2, 0), (0, 0, 0, 1), (0, 0, 0, 0)),
+        whole_square((0, 0, 0, 0), (1, 0, 0, 0), (0, 2, 0, 0), (0, 0, 3, 0)),
+    ],
+}
+STEP = whole_square((0, 1), (0, 0))
+ENTRIES = [whole_square((1, 0), (0, 0)), whole_square((0, 1), (0, 0)), whole_square((0, 0), (1, 0)), whole_square((0, 0), (0, 1))]
+
+
+def all_actings():
+    """Tuples (name of a table that keeps the rule, an acting of it)."""
+    found = [("two by two", squares) for squares in SPIN.values()]
+    found += [("two by two", seen_from(SPIN[side], *TURN[side])) for side in (2, 3, 4)]
+    found += [("two by two", side_by_side(SPIN[one], SPIN[other])) for one, other in ((1, 1), (1, 2), (2, 1), (2, 2), (1, 3))]
+    found += [("two by two", seen_from(side_by_side(SPIN[2], SPIN[2]), *TURN[4]))]
+    found += [("two by two", seen_from(side_by_side(SPIN[1], SPIN[3]), *TURN[4]))]
+    found += [("two by two", seen_from(side_by_side(SPIN[1], SPIN[2]), *TURN[3]))]
+    # Each leaving's number alone is what the shifts take from the ways in it.
+    found += [
+        ("two by two, shifted", shifted([square for square in SPIN[side]], Fraction(-1, 3), 2, Fraction(1, 2)))
+        for side in SPIN
+    ]
+    found += [("one way", [square]) for square in (whole_square((7,)), STEP, TURN[3][0], TURN[4][0])]
+    found += [("one way", [whole_square((0, 0, 0), (0, 0, 0), (0, 0, 0))]), ("one way", [still(4)])]
+    found += [("nothing left of two", [STEP, sum_squares(2, (3, STEP), (Fraction(1, 2), still(2)))])]
+    found += [("nothing left of two", [whole_square((1, 0), (0, 2)), whole_square((-5, 0), (0, 2))])]
+    found += [("nothing left of six", [sum_squares(2, (k, STEP), (k - 2, still(2))) for k in range(6)])]
+    found += [("nothing left of six", [sum_squares(4, (k, after_plain(TURN[4][0], TURN[4][0])), (1, TURN[4][0])) for k in range(6)])]
+    found += [("turns and moves", [whole_square((1, 0), (0, 0)), STEP])]
+    found += [("turns and moves", [whole_square((1, 0), (0, 5)), blank(2)])]
+    found += [("turns and moves", [whole_square((3, 0, 0), (0, 2, 0), (0, 0, 1)), whole_square((0, 1, 0), (0, 0, 4), (0, 0, 0))])]
+    found += [("turns and moves", seen_from([whole_square((0, 0), (0, -1)), STEP], *TURN[2]))]
+    found += [("third and alone", [[[(-10, 7)]], [[N]]]), ("third and alone", [[[N]], [[(5, 21)]]])]
+    found += [("three in a row", [
+        whole_square((0, 1, 0), (0, 0, 0), (0, 0, 0)), whole_square((0, 0, 0), (0, 0, 1), (0, 0, 0)),
+        whole_square((0, 0, 1), (0, 0, 0), (0, 0, 0)),
+    ])]
+    found += [("all of two by two", ENTRIES), ("all of two by two", [[[(3, 2)]], [[N]], [[N]], [[(3, 2)]]])]
+    found += [("all of two by two", side_by_side(ENTRIES, ENTRIES)), ("all of two by two", seen_from(ENTRIES, *TURN[2]))]
+    return found
+
+
+def shuffled_words(one, other):
+    """The sum of all words in which a word of each is laid into the other, by every choice of places."""
+    found = {}
+    for first, x in one:
+        for second, y in other:
+            for places in itertools.combinations(range(len(first) + len(second)), len(first)):
+                mine, its = list(first), list(second)
+                word = tuple((mine if at in places else its).pop(0) for at in range(len(first) + len(second)))
+                found[word] = found.get(word, 0) + worth(x) * worth(y)
+    return sum_of(found)
+
+
+def all_trees(many, count):
+    """All trees of so many letters, with letters below the count."""
+    if many == 1:
+        return list(range(count))
+    found = []
+    for ahead in range(1, many):
+        found += itertools.product(all_trees(ahead, count), all_trees(many - ahead, count))
+    return found
+
+
+def said_words(tree):
+    """The words of a tree, each with its sign, one for each way to turn some of its tuples about."""
+    if not isinstance(tree, tuple):
+        return [((tree,), 1)]
+    found = []
+    for (one, sign), (other, its) in itertools.product(said_words(tree[0]), said_words(tree[1])):
+        found += [(one + other, sign * its), (other + one, -sign * its)]
+    return found
+
+
+def said_plain(tree):
+    """The sum of a tree."""
+    found = {}
+    for word, sign in said_words(tree):
+        found[word] = found.get(word, 0) + sign
+    return sum_of(found)

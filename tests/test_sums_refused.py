@@ -2,13 +2,12 @@
 
 import unittest
 
-from reckon import I, N, NO_NUMBERS, Case, mixed_sum, table_of, wrong_terms
+from reckon import GOOD, I, N, NO_NUMBERS, Case, mixed_sum, out_of_order, table_of, wrong_terms
 from swaprest.errors import NoSum
 from swaprest.passing import passes, passing
 from swaprest.sums import even_of, longest_of, power_of, swap_of, turned_back, uneven_of
 from swaprest.words import parted, product, risen, steps_up, thing_of, walked
 
-GOOD = [((), (2, 3)), ((1,), I), ((2,), (-1, 1)), ((0, 1), I), ((1, 0), (5, 2)), ((2, 1, 0, 0, 1), I)]
 LONG = [((0, 0, 0, 0, 0), I)]
 
 # Each with what is handed in beside the sum, wrong or too long where that must not go first.
@@ -35,30 +34,6 @@ ASKS = {
 }
 # One keeps the rule, one breaks it, one isn't bare: what is no sum goes ahead of all that.
 TABLES = [table_of(name) for name in ("two by two", "thirds", "two by two, shifted")]
-
-
-def out_of_order():
-    """Lists with words twice or in the wrong order, and the first place at which they are no sum."""
-    return [
-        ([((), I), ((), I)], 1),
-        ([((0,), I), ((), I)], 1),
-        ([((0,), I), ((0,), I)], 1),
-        ([((0,), I), ((0,), (2, 1))], 1),
-        ([((1,), I), ((0,), I)], 1),
-        ([((0, 0), I), ((2,), I)], 1),
-        ([((0, 1), I), ((0, 0), I)], 1),
-        ([((1, 0), I), ((0, 2), I)], 1),
-        ([((), I), ((1, 2, 0), I), ((1, 1, 2), I)], 2),
-        ([((), I), ((0,), I), ((1,), I), ((1,), I), ((2,), I)], 3),
-        ([((), I), ((1,), I), ((0,), I), ((2,), I), ((2,), I)], 2),
-        ([((), I), ((0,), I), ((0, 0), I), ((2,), I)], 3),
-        ([((0, 0, 0, 0, 1), I), ((0, 0, 0, 0, 0), I)], 1),
-        ([((0, 0, 0, 0, 0), I), ((2, 2, 2, 2), I)], 1),
-        (GOOD + [((2, 1, 0, 0, 1), I)], 6),
-        (GOOD + [((0, 1), I)], 6),
-        (GOOD[:3] + [GOOD[1]] + GOOD[3:], 3),
-        (GOOD[::-1], 1),
-    ]
 
 
 class NoSums(Case):
