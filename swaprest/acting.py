@@ -168,28 +168,44 @@ def line_square(row, test):
     return [[times(mine, its) for its in test] for mine in row]
 
 
+def leads_of(room):
+    """The places of the leads of a room's kept rows."""
+    # The first 1 of a kept row is its lead.
+    return [row.index(ONE) for row in room]
+
+
 def start_square(room, side):
     """A square that moves no row of a room, by its kept rows, and each row into it."""
     total = blank_square(side)
-    for row in room:
-        # The first 1 of a kept row is its lead, and what a row of the room has there is its weight.
-        total = square_with_times(total, ONE, line_square(row, unit_row(row.index(ONE), side)))
+    for row, lead in zip(room, leads_of(room)):
+        # What a row of the room has at a lead is the weight of the lead's row in it.
+        total = square_with_times(total, ONE, line_square(row, unit_row(lead, side)))
     return total
 
 
-def unrest(squares, square):
-    """What a square exchanged with each of the squares comes to, in one row; noughts where it moves as they ask."""
+def telling_places(room, side):
+    """The places (row, place) that tell all of a square that moves a room to noughts and each row into it."""
+    leads = leads_of(room)
+    return [(lead, free) for lead in leads for free in range(side) if free not in leads]
+
+
+def unrest(squares, square, places):
+    """What a square exchanged with each of the squares comes to at the places, in one row."""
     found = []
     for its in squares:
-        for row in exchanged(square, its):
-            found.extend(row)
+        swapped = exchanged(square, its)
+        found.extend([swapped[row][place] for row, place in places])
     return found
 
 
-def squares_of(row, count, side):
-    """The squares, so many, whose numbers stand in one row, each turned about its main line."""
-    size = side * side
-    return [[row[size * way + place:size * (way + 1):side] for place in range(side)] for way in range(count)]
+def tests_of(row, places, count, side):
+    """The tests, so many, whose worth of a square is the pairing of a row with its unrest."""
+    tests = [blank_square(side) for way in range(count)]
+    for at, number in enumerate(row):
+        line, place = places[at % len(places)]
+        # The main line of an after pairs the rows of the one with the columns of the other.
+        tests[at // len(places)][place][line] = number
+    return tests
 
 
 def room_beside(table, squares, rows):
@@ -203,9 +219,11 @@ def room_beside(table, squares, rows):
     start = start_square(room, side)
     # These make all squares that move the room to noughts and each row into it: start may be mended by them alone.
     menders = [line_square(row, test) for row in room for test in nought_rows(room, side)]
-    word, found = summed([unrest(squares, mender) for mender in menders], unrest(squares, start))
+    # As the room is kept, start and they, exchanged with the squares, come to such squares too.
+    places = telling_places(room, side)
+    word, found = summed([unrest(squares, mender, places) for mender in menders], unrest(squares, start, places))
     if word == "apart":
-        return ("none", start, squares_of(found, table.count, side))
+        return ("none", start, tests_of(found, places, table.count, side))
     for mender, weight in zip(menders, found):
         start = square_with_times(start, times(MINUS_ONE, weight), mender)
     return ("beside", nought_rows(start, side))
