@@ -191,8 +191,15 @@ def chain(count, ending):
     return found if ending else found[:-1]
 
 
+# As a chain, but something is left of two that were left already.
+CROSSED = [
+    (0, 1, nums(0, 0, 1, 0, 0, 0, 0)), (0, 2, nums(0, 0, 0, 1, 0, 0, 0)), (0, 3, nums(0, 0, 0, 0, 1, 0, 0)),
+    (2, 3, nums(0, 0, 0, 0, 0, -1, 0)), (1, 4, nums(0, 0, 0, 0, 0, 1, 0)),
+]
+
 # Tables by their depths; None for those that aren't thin.
 DEPTHS = [
+    (5, 6, CROSSED),
     (1, 1, []), (1, 6, []), (2, *KEEPS["place and push"]), (2, *KEEPS["three in a row"]), (2, *KEEPS["two places, two pushes"]),
     (3, *KEEPS["two letters, three deep"]), (2, 3, chain(3, False)), (3, 3, chain(3, True)), (3, 4, chain(4, False)),
     (4, 4, chain(4, True)), (4, 5, chain(5, False)), (5, 5, chain(5, True)), (5, 6, chain(6, False)), (6, 6, chain(6, True)),
